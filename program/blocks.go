@@ -17,8 +17,8 @@ type nesting struct {
 	open []block
 }
 
-// nestBlocks fits the blocks together, and sets the Depth, Opener and Proc of
-// each line.
+// nestBlocks fits the blocks together, and sets the Depth of each line and the
+// lines that it names.
 func (p *Program) nestBlocks() (api.Errno, int) {
 	s := nesting{}
 	for n := 1; n < len(p.Lines); n++ {
@@ -27,6 +27,7 @@ func (p *Program) nestBlocks() (api.Errno, int) {
 			return api.ErrNest, n
 		}
 		p.Lines[n] = s.placed(line)
+		p.link(n)
 		s.pass(n, line.Form.Kind)
 	}
 	if len(s.open) > 0 {
@@ -65,6 +66,21 @@ func (s *nesting) placed(line Line) Line {
 		line.Opener = s.open[len(s.open)-1].line
 	}
 	return line
+}
+
+// link tells the line that opened a block where its else or end is, if line n
+// is that.
+func (p *Program) link(n int) {
+	line := p.Line(n)
+	if line.Opener < 1 || line.Opener >= len(p.Lines) {
+		return
+	}
+	switch line.Form.Kind {
+	case parse.Else:
+		p.Lines[line.Opener].Else = n
+	case parse.End:
+		p.Lines[line.Opener].End = n
+	}
 }
 
 // pass goes behind line n, which is of that kind.

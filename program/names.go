@@ -26,9 +26,9 @@ func (p *Program) namesFit(n int, line Line) bool {
 	name := line.Form.Name
 	switch line.Form.Kind {
 	case parse.Var, parse.Array:
-		return p.declaration(name) == n
+		return p.Declaration(name) == n
 	case parse.Proc:
-		return p.declaration(name) == n && paramsFit(line.Form)
+		return p.Declaration(name) == n && paramsFit(line.Form)
 	case parse.SetName, parse.Read:
 		if !p.isVariable(line.Proc, name) {
 			return false
@@ -97,7 +97,7 @@ func (p *Program) expressionFits(proc int, expr parse.Expr) bool {
 // isVariable tells whether a name is a variable or a parameter in the
 // procedure that begins at the line proc.
 func (p *Program) isVariable(proc int, name string) bool {
-	if p.isParam(proc, name) {
+	if p.Param(proc, name) >= 0 {
 		return true
 	}
 	return p.declared(name).Kind == parse.Var
@@ -106,33 +106,33 @@ func (p *Program) isVariable(proc int, name string) bool {
 // isArray tells whether a name is an array in the procedure that begins at
 // the line proc.
 func (p *Program) isArray(proc int, name string) bool {
-	if p.isParam(proc, name) {
+	if p.Param(proc, name) >= 0 {
 		return false
 	}
 	return p.declared(name).Kind == parse.Array
 }
 
-// isParam tells whether a name is a parameter of the procedure that begins at
-// the line proc.
-func (p *Program) isParam(proc int, name string) bool {
-	params := p.form(proc).Params
+// Param tells which parameter a name is of the procedure that begins at the
+// line proc, counted from 0 on; -1, if it is none.
+func (p *Program) Param(proc int, name string) int {
+	params := p.Line(proc).Form.Params
 	for i := 0; i < len(params); i++ {
 		if params[i] == name {
-			return true
+			return i
 		}
 	}
-	return false
+	return -1
 }
 
 // declared gives the line that declares a name, whatever it declares by it;
 // an empty one, if none does.
 func (p *Program) declared(name string) parse.Form {
-	n := p.declaration(name)
-	return p.form(n)
+	n := p.Declaration(name)
+	return p.Line(n).Form
 }
 
-// declaration tells the first line that declares a name, or 0.
-func (p *Program) declaration(name string) int {
+// Declaration tells the first line that declares a name, or 0.
+func (p *Program) Declaration(name string) int {
 	for n := 1; n < len(p.Lines); n++ {
 		switch p.Lines[n].Form.Kind {
 		case parse.Var, parse.Array, parse.Proc:

@@ -15,6 +15,8 @@ type Line struct {
 	Form   parse.Form
 	Depth  int // how many blocks it lies in; the one that it opens, closes or is the else of does not count
 	Opener int // of an else and an end: the line that opened its block
+	Else   int // of an if: its else
+	End    int // of a proc, if or while: its end
 	Proc   int // of a line in a procedure: the line where that begins
 }
 
@@ -65,11 +67,10 @@ func (p *Program) readForms(source string) (api.Errno, int) {
 	return api.OK, 0
 }
 
-// form gives the form of a line; that of an empty one, if there is no such
-// line.
-func (p *Program) form(n int) parse.Form {
+// Line gives a line; an empty one, if there is no such line.
+func (p *Program) Line(n int) Line {
 	if n < 0 || n >= len(p.Lines) {
-		return parse.Form{}
+		return Line{}
 	}
-	return p.Lines[n].Form
+	return p.Lines[n]
 }

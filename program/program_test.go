@@ -33,28 +33,28 @@ func TestBlocks(t *testing.T) {
 		"proc main",
 		"end",
 	}, "\n"))
-	want := [][3]int{
-		{0, 0, 0},
-		{0, 0, 0},
-		{0, 0, 0},
-		{1, 0, 2},
-		{2, 0, 2},
-		{3, 0, 2},
-		{2, 4, 2},
-		{3, 0, 2},
-		{2, 4, 2},
-		{1, 3, 2},
-		{0, 2, 2},
-		{0, 0, 0},
-		{0, 0, 0},
-		{0, 12, 12},
+	want := [][5]int{
+		{0, 0, 0, 0, 0},
+		{0, 0, 0, 0, 0},
+		{0, 0, 0, 10, 0},
+		{1, 0, 0, 9, 2},
+		{2, 0, 6, 8, 2},
+		{3, 0, 0, 0, 2},
+		{2, 4, 0, 0, 2},
+		{3, 0, 0, 0, 2},
+		{2, 4, 0, 0, 2},
+		{1, 3, 0, 0, 2},
+		{0, 2, 0, 0, 2},
+		{0, 0, 0, 0, 0},
+		{0, 0, 0, 13, 0},
+		{0, 12, 0, 0, 12},
 	}
 	if len(p.Lines) != len(want) {
 		t.Fatalf("%d lines", len(p.Lines))
 	}
 	for n, line := range p.Lines {
-		if got := [3]int{line.Depth, line.Opener, line.Proc}; got != want[n] {
-			t.Errorf("line %d: depth, opener and procedure %v, want %v", n, got, want[n])
+		if got := [5]int{line.Depth, line.Opener, line.Else, line.End, line.Proc}; got != want[n] {
+			t.Errorf("line %d: depth, opener, else, end and procedure %v, want %v", n, got, want[n])
 		}
 	}
 }
@@ -73,16 +73,65 @@ func TestRefusedGivesNothing(t *testing.T) {
 	}
 }
 
-// No promise reaches the form of a line that is not there, so it is asked for
-// here.
-func TestFormOfNoLine(t *testing.T) {
+// No promise reaches a line that is not there, so it is asked for here.
+func TestNoLine(t *testing.T) {
 	p := read(t, "proc main\nend")
 	for _, n := range []int{-1, 0, 3, 1 << 62, -1 << 62} {
-		if f := p.form(n); f.Kind != 0 || f.Name != "" {
-			t.Errorf("line %d: %v", n, f)
+		if line := p.Line(n); !reflect.DeepEqual(line, Line{}) {
+			t.Errorf("line %d: %v", n, line)
 		}
 	}
-	if f := p.form(1); f.Name != "main" {
-		t.Errorf("line 1: %v", f)
+	if line := p.Line(1); line.Form.Name != "main" {
+		t.Errorf("line 1: %v", line)
+	}
+}
+
+func TestGoingOn(t *testing.T) {
+	p := read(t, strings.Join([]string{
+		"proc f",
+		"while 1",
+		"if 1",
+		"",
+		"else",
+		"return",
+		"end",
+		"",
+		"end",
+		"if 0",
+		"else",
+		"",
+		"end",
+		"end",
+		"",
+		"proc main",
+		"",
+		"if 0",
+		"end",
+		"end",
+		"",
+	}, "\n"))
+	if end := p.Line(1).End; end != 14 {
+		t.Errorf("the end of line 1: %d", end)
+	}
+	if first := p.First(); first != 18 {
+		t.Errorf("first: %d", first)
+	}
+	for n, want := range []int{0, 2, 2, 3, 2, 2, 6, 2, 2, 2, 10, 14, 14, 14, 14, 18, 18, 18, 18, 20, 20, 0, 0} {
+		if n == 1 || n == 15 || n == 16 {
+			continue // a run does not come to a line outside a procedure, nor to a proc
+		}
+		if stop := p.GoOn(n); stop != want {
+			t.Errorf("going on from line %d: %d, want %d", n, stop, want)
+		}
+	}
+	for n, want := range map[int]int{2: 10, 3: 6, 10: 12, 18: 20} {
+		if line := p.Otherwise(n); line != want {
+			t.Errorf("where line %d is 0: %d, want %d", n, line, want)
+		}
+	}
+	for _, n := range []int{-1, 0, 22, 1 << 62, -1 << 62} {
+		if stop := p.GoOn(n); stop != 0 {
+			t.Errorf("going on from line %d: %d", n, stop)
+		}
 	}
 }

@@ -51,7 +51,7 @@ func (p *Program) isStop(line Line) bool {
 		parse.If, parse.While, parse.Call, parse.Return:
 		return true
 	case parse.End:
-		return p.form(line.Opener).Kind == parse.Proc
+		return p.Line(line.Opener).Form.Kind == parse.Proc
 	}
 	return false
 }

@@ -2,6 +2,7 @@ package retrace_test
 
 import (
 	"math"
+	"reflect"
 	"slices"
 	"strings"
 	"testing"
@@ -47,15 +48,40 @@ func TestP1FirstError(t *testing.T) {
 	}
 }
 
+// A source that is not at fault is run without failing, whatever it comes to.
+func TestP1NoRunFails(t *testing.T) {
+	ended := 0
+	for i, source := range sources(3000) {
+		input := [][]int{nil, {most, least, 0, -1, 1}, rising(100)}[i%3]
+		for _, fuel := range []int{0, 1, 7, 1000} {
+			r, errno, at := retrace.Run(source, input, fuel)
+			if want, wantAt := refused(t, source); errno != want || at != wantAt {
+				t.Fatalf("P3: Run(%q): %d, line %d", source, errno, at)
+			}
+			if r.Steps < 0 || r.Steps > fuel || r.End == api.Running && errno == api.OK && r.Steps != fuel {
+				t.Fatalf("P6: Run(%q, %v, %d): %v", source, input, fuel, r)
+			}
+			if r.End != api.Running {
+				ended++
+			}
+		}
+	}
+	if ended < 500 {
+		t.Errorf("only %d runs ended", ended)
+	}
+}
+
+const reading = "var x\nproc main\nwhile 1\nread x\nprint x\nend\nend"
+
 func TestP2Input(t *testing.T) {
-	for _, source := range []string{"", "?", lines(example...)} {
+	for _, source := range []string{"", "?", lines(example...), reading} {
 		for _, length := range []int{0, 1, 100, 101} {
 			whole := make([]int, 120)
 			for i := range whole {
 				whole[i] = i
 			}
 			before := slices.Clone(whole)
-			retrace.Run(source, whole[:length], 10)
+			retrace.Run(source, whole[:length], 1000)
 			retrace.New(source, whole[:length], 10)
 			if !slices.Equal(whole, before) {
 				t.Errorf("P2: the input of %d numbers was written into: %v", length, whole)
@@ -79,20 +105,45 @@ func TestP2Lists(t *testing.T) {
 	}
 }
 
+func TestP2Output(t *testing.T) {
+	input := rising(20)
+	first, _, _ := retrace.Run(reading, input[:10], 1000)
+	second, _, _ := retrace.Run(reading, input[:10], 1000)
+	spoil := first.Output[:cap(first.Output)]
+	for i := range spoil {
+		spoil[i] = -1
+	}
+	if !slices.Equal(input, rising(20)) {
+		t.Errorf("P2: the input has become %v", input)
+	}
+	third, _, _ := retrace.Run(reading, input[:10], 1000)
+	if !slices.Equal(second.Output, rising(10)) || !slices.Equal(third.Output, rising(10)) {
+		t.Errorf("P2: after the first list was written into: %v, %v", second.Output, third.Output)
+	}
+	for i := range input {
+		input[i] = -2
+	}
+	if !slices.Equal(second.Output, rising(10)) {
+		t.Errorf("P2: after the input was written into: %v", second.Output)
+	}
+}
+
 // What a call answers hangs on its arguments alone, not on what was asked
 // before.
 func TestP2Alone(t *testing.T) {
-	all := sources(200)
+	all := sources(500)
 	type answer struct {
-		text  string
-		stops []int
-		errno api.Errno
-		at    int
+		text   string
+		stops  []int
+		result api.Result
+		errno  api.Errno
+		at     int
 	}
 	ask := func(source string) answer {
 		text, errno, at := retrace.Tidy(source)
 		stops, _, _ := retrace.Stops(source)
-		return answer{text, stops, errno, at}
+		result, _, _ := retrace.Run(source, []int{1, 2}, 1000)
+		return answer{text, stops, result, errno, at}
 	}
 	var answers []answer
 	for _, source := range all {
@@ -100,7 +151,7 @@ func TestP2Alone(t *testing.T) {
 	}
 	for i := len(all) - 1; i >= 0; i-- {
 		a, b := answers[i], ask(all[i])
-		if a.text != b.text || a.errno != b.errno || a.at != b.at || !slices.Equal(a.stops, b.stops) {
+		if !reflect.DeepEqual(a, b) {
 			t.Errorf("P2: %q: %v, then %v", all[i], a, b)
 		}
 	}

@@ -3,6 +3,7 @@ package retrace
 
 import (
 	"retrace/api"
+	"retrace/machine"
 	"retrace/program"
 )
 
@@ -29,23 +30,26 @@ func Stops(source string) ([]int, api.Errno, int) {
 
 // Run runs a source from its first place on (P6).
 func Run(source string, input []int, fuel int) (api.Result, api.Errno, int) {
-	errno, at := refuse(source, input)
-	return api.Result{}, errno, at
+	m, errno, at := machine.New(source, input)
+	if errno != api.OK {
+		return api.Result{}, errno, at
+	}
+	if fuel < 0 || fuel > api.MaxFuel {
+		return api.Result{}, api.ErrFuel, 0
+	}
+	steps := 0
+	for steps < fuel && m.End() == api.Running {
+		m.Step()
+		steps++
+	}
+	output := m.Output()
+	return api.Result{End: m.End(), Steps: steps, Output: output}, api.OK, 0
 }
 
 // New begins a session (P7).
 func New(source string, input []int, capacity int) (*Session, api.Errno, int) {
-	errno, at := refuse(source, input)
+	_, errno, at := machine.New(source, input)
 	return nil, errno, at
-}
-
-// refuse tells why a source can't be run with an input, and the line (P3).
-func refuse(source string, input []int) (api.Errno, int) {
-	if len(input) > api.MaxInput {
-		return api.ErrLong, 0
-	}
-	_, errno, at := program.Read(source)
-	return errno, at
 }
 
 // Where tells the place (P8).
