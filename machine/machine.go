@@ -35,22 +35,12 @@ func New(source string, input []int) (Machine, api.Errno, int) {
 	if errno != api.OK {
 		return Machine{}, errno, at
 	}
+	// A machine may be kept for long, and no run looks at tokens.
+	p.DropTokens()
 	m := Machine{program: p}
 	m.input = append(m.input, input...)
 	m.frames = []frame{{}}
 	m.line = m.program.First()
 	m.declare()
 	return m, api.OK, 0
-}
-
-// End tells the end of the place.
-func (m *Machine) End() int {
-	return m.end
-}
-
-// Output tells all that has been printed, in a list of its own.
-func (m *Machine) Output() []int {
-	var output []int
-	output = append(output, m.output...)
-	return output
 }

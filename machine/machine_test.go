@@ -42,6 +42,11 @@ func TestFirstPlace(t *testing.T) {
 	if len(m.frames) != 1 || len(m.frames[0].params) != 0 || m.frames[0].call != 0 {
 		t.Errorf("frames %v", m.frames)
 	}
+	for n, line := range m.program.Lines {
+		if len(line.Tokens) > 0 {
+			t.Errorf("line %d: tokens %v are kept", n, line.Tokens)
+		}
+	}
 	for n, want := range map[int]int{0: 0, 1: 1, 2: 0, 4: 3, 5: 0, 10: 0} {
 		if !slices.Equal(m.values[n], make([]int, want)) {
 			t.Errorf("line %d: values %v", n, m.values[n])

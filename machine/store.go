@@ -31,10 +31,15 @@ func zeros(form parse.Form) []int {
 	return cells
 }
 
+// proc tells the line where the present frame's procedure begins.
+func (m *Machine) proc() int {
+	return m.program.Line(m.line).Proc
+}
+
 // variable finds the variable or parameter that a name means in the present
 // frame's procedure.
 func (m *Machine) variable(name string) spot {
-	proc := m.program.Line(m.line).Proc
+	proc := m.proc()
 	param := m.program.Param(proc, name)
 	if param >= 0 {
 		return spot{cell: param}

@@ -13,7 +13,7 @@ func (p *Program) First() int {
 func (p *Program) GoOn(n int) int {
 	for n > 0 && n < len(p.Lines) {
 		line := p.Lines[n]
-		if p.isStop(line) {
+		if p.IsStop(n) {
 			return n
 		}
 		opener := p.Line(line.Opener)

@@ -30,11 +30,11 @@ func (p *Program) namesFit(n int, line Line) bool {
 	case parse.Proc:
 		return p.Declaration(name) == n && paramsFit(line.Form)
 	case parse.SetName, parse.Read:
-		if !p.isVariable(line.Proc, name) {
+		if !p.IsVariable(line.Proc, name) {
 			return false
 		}
 	case parse.SetCell:
-		if !p.isArray(line.Proc, name) {
+		if !p.IsArray(line.Proc, name) {
 			return false
 		}
 	case parse.Call:
@@ -84,28 +84,28 @@ func (p *Program) expressionsFit(line Line) bool {
 func (p *Program) expressionFits(proc int, expr parse.Expr) bool {
 	for i := 0; i < len(expr.Ops); i++ {
 		op := expr.Ops[i]
-		if op.Code == parse.Load && !p.isVariable(proc, op.Name) {
+		if op.Code == parse.Load && !p.IsVariable(proc, op.Name) {
 			return false
 		}
-		if op.Code == parse.LoadCell && !p.isArray(proc, op.Name) {
+		if op.Code == parse.LoadCell && !p.IsArray(proc, op.Name) {
 			return false
 		}
 	}
 	return true
 }
 
-// isVariable tells whether a name is a variable or a parameter in the
+// IsVariable tells whether a name is a variable or a parameter in the
 // procedure that begins at the line proc.
-func (p *Program) isVariable(proc int, name string) bool {
+func (p *Program) IsVariable(proc int, name string) bool {
 	if p.Param(proc, name) >= 0 {
 		return true
 	}
 	return p.declared(name).Kind == parse.Var
 }
 
-// isArray tells whether a name is an array in the procedure that begins at
+// IsArray tells whether a name is an array in the procedure that begins at
 // the line proc.
-func (p *Program) isArray(proc int, name string) bool {
+func (p *Program) IsArray(proc int, name string) bool {
 	if p.Param(proc, name) >= 0 {
 		return false
 	}

@@ -67,6 +67,13 @@ func (p *Program) readForms(source string) (api.Errno, int) {
 	return api.OK, 0
 }
 
+// DropTokens leaves the program without its tokens: it can't be tidied then.
+func (p *Program) DropTokens() {
+	for n := 0; n < len(p.Lines); n++ {
+		p.Lines[n].Tokens = nil
+	}
+}
+
 // Line gives a line; an empty one, if there is no such line.
 func (p *Program) Line(n int) Line {
 	if n < 0 || n >= len(p.Lines) {

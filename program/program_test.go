@@ -81,8 +81,25 @@ func TestNoLine(t *testing.T) {
 			t.Errorf("line %d: %v", n, line)
 		}
 	}
+	for _, n := range []int{-1, 0, 1, 3, 1 << 62, -1 << 62} {
+		if p.IsStop(n) {
+			t.Errorf("line %d is a stop", n)
+		}
+	}
 	if line := p.Line(1); line.Form.Name != "main" {
 		t.Errorf("line 1: %v", line)
+	}
+}
+
+// Behind this a program is what it was but for its tokens.
+func TestDropTokens(t *testing.T) {
+	source := "var x\nproc main\nif x\n\nend\nend"
+	p, whole := read(t, source), read(t, source)
+	p.DropTokens()
+	for n, line := range whole.Lines {
+		if line.Tokens = nil; !reflect.DeepEqual(p.Lines[n], line) {
+			t.Errorf("line %d: %v", n, p.Lines[n])
+		}
 	}
 }
 

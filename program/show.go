@@ -38,14 +38,16 @@ func tidyLine(line Line) string {
 func (p *Program) Stops() []int {
 	var stops []int
 	for n := 1; n < len(p.Lines); n++ {
-		if p.isStop(p.Lines[n]) {
+		if p.IsStop(n) {
 			stops = append(stops, n)
 		}
 	}
 	return stops
 }
 
-func (p *Program) isStop(line Line) bool {
+// IsStop tells whether a run can stand at line n.
+func (p *Program) IsStop(n int) bool {
+	line := p.Line(n)
 	switch line.Form.Kind {
 	case parse.SetName, parse.SetCell, parse.Print, parse.Read,
 		parse.If, parse.While, parse.Call, parse.Return:

@@ -2,6 +2,7 @@ package retrace_test
 
 import (
 	"math"
+	"math/rand"
 	"reflect"
 	"slices"
 	"strings"
@@ -95,10 +96,7 @@ func TestP2Lists(t *testing.T) {
 	want := []int{5, 6, 8, 9, 11, 12, 14, 16, 17}
 	first, _, _ := retrace.Stops(source)
 	second, _, _ := retrace.Stops(source)
-	spoil := first[:cap(first)]
-	for i := range spoil {
-		spoil[i] = -1
-	}
+	spoil(first)
 	third, _, _ := retrace.Stops(source)
 	if !slices.Equal(second, want) || !slices.Equal(third, want) {
 		t.Errorf("P2: after the first list was written into: %v, %v", second, third)
@@ -109,10 +107,7 @@ func TestP2Output(t *testing.T) {
 	input := rising(20)
 	first, _, _ := retrace.Run(reading, input[:10], 1000)
 	second, _, _ := retrace.Run(reading, input[:10], 1000)
-	spoil := first.Output[:cap(first.Output)]
-	for i := range spoil {
-		spoil[i] = -1
-	}
+	spoil(first.Output)
 	if !slices.Equal(input, rising(20)) {
 		t.Errorf("P2: the input has become %v", input)
 	}
@@ -154,5 +149,154 @@ func TestP2Alone(t *testing.T) {
 		if !reflect.DeepEqual(a, b) {
 			t.Errorf("P2: %q: %v, then %v", all[i], a, b)
 		}
+	}
+}
+
+// askAmiss puts a Session to all calls that are refused, whatever it stands at.
+func askAmiss(t *testing.T, s *retrace.Session) {
+	t.Helper()
+	for _, line := range []int{0, -1, 1, 101, least, most} {
+		if on, errno := s.Mark(line); on || errno != api.ErrStop {
+			t.Errorf("P9: Mark(%d) = %v, %d", line, on, errno)
+		}
+	}
+	for _, n := range []int{-1, 4, 1001, least, most} {
+		if r, errno := s.Forward(n, n); r != (api.Reply{}) || errno != api.ErrKind {
+			t.Errorf("P10: Forward(%d, %d) = %+v, %d", n, n, r, errno)
+		}
+	}
+	for kind := api.Step; kind <= api.Continue; kind++ {
+		for _, fuel := range []int{-1, 1001, least, most} {
+			if r, errno := s.Forward(kind, fuel); r != (api.Reply{}) || errno != api.ErrFuel {
+				t.Errorf("P10: Forward(%d, %d) = %+v, %d", kind, fuel, r, errno)
+			}
+		}
+	}
+	for _, name := range []string{"", "nothing", "set", "\xff", strings.Repeat("x", 1<<16)} {
+		if value, errno := s.Value(name); value != 0 || errno != api.ErrName {
+			t.Errorf("P11: Value(%.20q) = %d, %d", name, value, errno)
+		}
+		for _, i := range []int{0, -1, least, most} {
+			if value, errno := s.Cell(name, i); value != 0 || errno != api.ErrName {
+				t.Errorf("P11: Cell(%.20q, %d) = %d, %d", name, i, value, errno)
+			}
+		}
+	}
+}
+
+// No Session fails, and one that was asked amiss is as one that was not.
+func TestP1Sessions(t *testing.T) {
+	g := runs{random: rand.New(rand.NewSource(1))}
+	for range 150 {
+		source, input := "var x\n"+strings.Replace(g.source(), "var x", "", 1), g.input()
+		one, other := begin(t, source, input, 5), begin(t, source, input, 5)
+		stops, _, _ := retrace.Stops(source)
+		for range 12 {
+			line := stops[g.random.Intn(len(stops))]
+			one.Mark(line)
+			other.Mark(line)
+			askAmiss(t, one)
+			kind, fuel := g.random.Intn(4), g.random.Intn(30)
+			r, errno := one.Forward(kind, fuel)
+			if want, wantErrno := other.Forward(kind, fuel); r != want || errno != wantErrno {
+				t.Fatalf("P1: %q: Forward(%d, %d) = %+v, %d, want %+v, %d", source, kind, fuel, r, errno, want, wantErrno)
+			}
+			askAmiss(t, one)
+			if a, b := look(t, one), look(t, other); !reflect.DeepEqual(a, b) {
+				t.Fatalf("P1: %q: %+v, want %+v", source, a, b)
+			}
+		}
+	}
+}
+
+// spoil writes over a list and its spare room.
+func spoil(l []int) {
+	l = l[:cap(l)]
+	for i := range l {
+		l[i] = -7
+	}
+}
+
+// down reads a number at each depth, prints it and goes down, six frames deep.
+var down = lines("var x", "proc f n", "read x", "print x", "if n < 5", "call f n + 1", "end", "print n", "end", "proc main", "call f 1", "end")
+
+func TestP2SessionInput(t *testing.T) {
+	whole := rising(100)
+	s := begin(t, down, whole[:5], 5)
+	if !slices.Equal(whole, rising(100)) {
+		t.Errorf("P2: New has written into the input: %v", whole)
+	}
+	for i := range 40 {
+		whole[i] = -i
+		before := slices.Clone(whole)
+		s.Forward(api.Step, 1)
+		if !slices.Equal(whole, before) {
+			t.Errorf("P2: Forward has written into the input: %v", whole)
+		}
+	}
+	if output := s.Output(); !slices.Equal(output, []int{0, 1, 2, 3, 4, 5, 4, 3, 2, 1}) || s.Where().End != api.Halted {
+		t.Errorf("P2: Output() = %v, %+v", output, s.Where())
+	}
+}
+
+// Lists that came out are neither changed later nor change what comes later.
+func TestP2SessionLists(t *testing.T) {
+	one, other := begin(t, down, rising(5), 5), begin(t, down, rising(5), 5)
+	var kept, keptBefore [][]int
+	for range 30 {
+		output, calls := one.Output(), one.Calls()
+		if !slices.Equal(output, other.Output()) || !slices.Equal(calls, other.Calls()) {
+			t.Errorf("P2: output %v, calls %v, want %v, %v", output, calls, other.Output(), other.Calls())
+		}
+		kept = append(kept, one.Output(), one.Calls())
+		keptBefore = append(keptBefore, slices.Clone(output), slices.Clone(calls))
+		spoil(output)
+		spoil(calls)
+		r, _ := one.Forward(api.Step, 1)
+		if want, _ := other.Forward(api.Step, 1); r != want {
+			t.Errorf("P2: Forward = %+v, want %+v", r, want)
+		}
+		if a, b := look(t, one), look(t, other); !reflect.DeepEqual(a, b) {
+			t.Errorf("P2: %+v, want %+v", a, b)
+		}
+	}
+	for i := range kept {
+		if !slices.Equal(kept[i], keptBefore[i]) {
+			t.Errorf("P2: the list %v has become %v", keptBefore[i], kept[i])
+		}
+	}
+}
+
+// Sessions do not change one another, nor what other calls answer.
+func TestP2SessionsApart(t *testing.T) {
+	g := runs{random: rand.New(rand.NewSource(2))}
+	for range 100 {
+		source, input := g.source(), g.input()
+		stops, _, _ := retrace.Stops(source)
+		run, _, _ := retrace.Run(source, input, 300)
+		places := placesOf(source, input, 300)
+		all := []*retrace.Session{begin(t, source, input, 5), begin(t, source, input, 500), begin(t, source, input, 5)}
+		at := make([]int, len(all))
+		for range 20 {
+			i := g.random.Intn(len(all))
+			if i == 0 {
+				all[0].Mark(stops[g.random.Intn(len(stops))])
+				r, _ := all[0].Forward(api.Continue, min(20, 300-at[0]))
+				at[0] = r.Index
+				continue
+			}
+			r, _ := all[i].Forward(api.Continue, min(15, 300-at[i]))
+			if to := min(at[i]+15, 300, len(places)-1); r.Index != to || r.Reason == api.AtMark {
+				t.Fatalf("P2: %q: Session %d, without marks: %+v", source, i, r)
+			}
+			at[i] = r.Index
+			for j := range all {
+				checkPlace(t, all[j], places, at[j])
+			}
+		}
+		if again, _, _ := retrace.Run(source, input, 300); !reflect.DeepEqual(run, again) {
+			t.Fatalf("P2: %q: Run = %v, then %v", source, run, again)
+		}
+		checkPlace(t, begin(t, source, input, 5), places, 0)
 	}
 }

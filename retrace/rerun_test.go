@@ -1,6 +1,7 @@
 package retrace_test
 
 import (
+	"maps"
 	"math/big"
 	"math/rand"
 	"slices"
@@ -10,7 +11,7 @@ import (
 	"retrace/api"
 )
 
-// A second telling of P6, made from the words of the document and by other
+// A second telling of P6 and of the places of a run, made from the words of the document and by other
 // means than the program's: blocks are run within blocks and calls within
 // calls, expressions are cut at the sign that binds least, and numbers are as
 // long as they come and are wrapped round behind each sign. The tests hold the
@@ -21,18 +22,44 @@ type rerun struct {
 	vars   map[string]int
 	arrays map[string][]int
 	params []map[string]int
+	calls  []int
 	input  []int
 	fuel   int
 	end    int
 	steps  int
 	output []int
+	places []place // places[i] has the index i; none, if they are not looked for
+	looks  bool
+}
+
+// place is what can be told of a place: of a name that can't stand in an
+// expression there, there is no value, and no cells.
+type place struct {
+	end, line, depth int
+	values           map[string]int
+	cells            map[string][]int
+	calls            []int
+	output           []int
 }
 
 type rerunStopped struct{}
 
 // rerunOf answers as Run does; the source is not at fault.
 func rerunOf(source string, input []int, fuel int) api.Result {
-	r := rerun{vars: map[string]int{}, arrays: map[string][]int{}, input: input, fuel: fuel}
+	r := rerun{input: input, fuel: fuel}
+	r.run(source)
+	return api.Result{End: r.end, Steps: r.steps, Output: r.output}
+}
+
+// placesOf gives the places of a run of at most fuel steps.
+func placesOf(source string, input []int, fuel int) []place {
+	r := rerun{input: input, fuel: fuel, looks: true}
+	r.run(source)
+	return r.places
+}
+
+func (r *rerun) run(source string) {
+	r.vars, r.arrays = map[string]int{}, map[string][]int{}
 	if errno, at := r.source.check(source); errno != api.OK {
 		panic(source + ": refused at line " + strconv.Itoa(at))
 	}
@@ -42,27 +69,49 @@ func rerunOf(source string, input []int, fuel int) api.Result {
 			r.arrays[tokens[1]] = make([]int, cells)
 		}
 	}
-	func() {
-		defer func() {
-			if stopped := recover(); stopped != (rerunStopped{}) {
-				panic(stopped)
-			}
-		}()
-		r.proc("main", nil)
+	defer func() {
+		if stopped := recover(); stopped != (rerunStopped{}) {
+			panic(stopped)
+		}
 	}()
-	return api.Result{End: r.end, Steps: r.steps, Output: r.output}
+	r.proc("main", nil)
 }
 
-// stand is where a run stands ahead of a step.
-func (r *rerun) stand() {
+// stand is where a run stands at line i, ahead of a step.
+func (r *rerun) stand(i int) {
+	if r.looks {
+		r.places = append(r.places, r.look(i))
+	}
 	if r.steps == r.fuel {
 		panic(rerunStopped{})
 	}
 }
 
+func (r *rerun) look(i int) place {
+	p := place{end: r.end, line: i + 1, depth: len(r.params), calls: slices.Clone(r.calls), output: slices.Clone(r.output)}
+	params := r.params[len(r.params)-1]
+	p.values = map[string]int{}
+	for name := range r.source.vars {
+		p.values[name] = r.vars[name]
+	}
+	maps.Copy(p.values, params)
+	p.cells = map[string][]int{}
+	for name, cells := range r.arrays {
+		if _, hidden := params[name]; !hidden {
+			p.cells[name] = slices.Clone(cells)
+		}
+	}
+	return p
+}
+
 func (r *rerun) stop(end int) {
 	r.end = end
 	r.steps++
+	if r.looks {
+		last := r.places[len(r.places)-1]
+		last.end = end
+		r.places = append(r.places, last)
+	}
 	panic(rerunStopped{})
 }
 
@@ -72,14 +121,15 @@ func (r *rerun) proc(name string, values []int) {
 		params[param] = values[i]
 	}
 	r.params = append(r.params, params)
-	if !r.block(r.source.declared[name] + 1) {
-		r.leave()
+	begin := r.source.declared[name] + 1
+	if !r.block(begin) {
+		r.leave(r.closing(begin))
 	}
 	r.params = r.params[:len(r.params)-1]
 }
 
-func (r *rerun) leave() {
-	r.stand()
+func (r *rerun) leave(i int) {
+	r.stand(i)
 	if len(r.params) == 1 {
 		r.stop(api.Halted)
 	}
@@ -111,7 +161,7 @@ func (r *rerun) block(i int) bool {
 		case "":
 			continue
 		case "return":
-			r.leave()
+			r.leave(i)
 			return true
 		case "while":
 			for r.line(i) != 0 {
@@ -139,7 +189,7 @@ func (r *rerun) block(i int) bool {
 // line makes the step of one line, and of what it calls; it answers the value
 // that was worked out.
 func (r *rerun) line(i int) int {
-	r.stand()
+	r.stand(i)
 	tokens := r.source.lines[i]
 	rest := tokens[1:]
 	value := 0
@@ -179,7 +229,9 @@ func (r *rerun) line(i int) int {
 			r.stop(api.TooDeep)
 		}
 		r.steps++
+		r.calls = append(r.calls, i+1)
 		r.proc(rest[0], values)
+		r.calls = r.calls[:len(r.calls)-1]
 		return 0
 	}
 	r.steps++
