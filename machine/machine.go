@@ -1,4 +1,4 @@
-// Package machine runs a program, a step at a time.
+// Package machine runs a program, a step at a time, and takes steps back.
 package machine
 
 import (

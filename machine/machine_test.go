@@ -183,12 +183,74 @@ func TestLists(t *testing.T) {
 	}
 }
 
+// even makes lists without numbers nil, so that machines can be compared.
+func even(m Machine) Machine {
+	m = copied(m)
+	if len(m.output) == 0 {
+		m.output = nil
+	}
+	for i := range m.frames {
+		if len(m.frames[i].params) == 0 {
+			m.frames[i].params = nil
+		}
+	}
+	return m
+}
+
+// Each step is undone to the place from which it was made, and made anew with
+// the same records; the number of these is the one that the document tells.
+func TestUndo(t *testing.T) {
+	m := start(t, []int{7, 8, 9}, "var x", "array a 3", "proc f p q", "if p < 2", "read q", "set a[p] to q", "call f p + 1, q", "set p to 9", "else", "print q", "return", "end", "end",
+		"proc main", "while x < 2", "set x to x + 1", "call f 0, 5", "end", "end")
+	var places []Machine
+	var steps [][]Record
+	for m.end == api.Running {
+		places = append(places, even(m))
+		steps = append(steps, m.Step())
+	}
+	var counts []int
+	for _, step := range steps {
+		counts = append(counts, len(step))
+		for i, record := range step {
+			if record.Begins() != (i == 0) {
+				t.Errorf("record %d of %v", i, step)
+			}
+		}
+	}
+	if want := []int{1, 2, 1, 1, 3, 2, 1, 1, 3, 2, 1, 1, 2, 3, 2, 3, 2, 3, 1, 2, 1, 1, 3, 2, 1, 1, 1}; m.end != api.NoInput || !slices.Equal(counts, want) {
+		t.Fatalf("end %d, records %v, want %v", m.end, counts, want)
+	}
+	last := even(m)
+	for i := len(steps) - 1; i >= 0; i-- {
+		m.Undo(steps[i])
+		if !reflect.DeepEqual(even(m), places[i]) {
+			t.Fatalf("step %d undone: %v, want %v", i, m, places[i])
+		}
+	}
+	for i, step := range steps {
+		if again := m.Step(); !slices.Equal(again, step) {
+			t.Errorf("step %d made anew: %v, was %v", i, again, step)
+		}
+	}
+	if !reflect.DeepEqual(even(m), last) {
+		t.Errorf("made anew: %v, want %v", m, last)
+	}
+	if records := m.Step(); len(records) != 0 {
+		t.Errorf("no step was made: %v", records)
+	}
+}
+
 // No source comes to these, as its names are checked and its places are stops;
 // none of them fails.
 func TestNothingThere(t *testing.T) {
 	m := Machine{}
 	if value := m.get(spot{}); value != 0 {
 		t.Errorf("a machine without frames: %d", value)
+	}
+	m.Undo(nil)
+	m.Undo([]Record{{}, {kind: printed}, {kind: passed}, {kind: entered}, {kind: stored, value: 1}})
+	if !reflect.DeepEqual(m, Machine{}) {
+		t.Errorf("a machine in which nothing was to be undone: %v", m)
 	}
 	m.Step()
 	if m.end != api.Halted || m.line != 0 {

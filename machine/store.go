@@ -90,3 +90,10 @@ func (m *Machine) put(s spot, value int) {
 	}
 	cells[s.cell] = value
 }
+
+// store puts a value, and gives the record by which that is undone.
+func (m *Machine) store(s spot, value int) Record {
+	old := m.get(s)
+	m.put(s, value)
+	return Record{kind: stored, at: s, value: old}
+}

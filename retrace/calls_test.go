@@ -164,11 +164,17 @@ func askAmiss(t *testing.T, s *retrace.Session) {
 		if r, errno := s.Forward(n, n); r != (api.Reply{}) || errno != api.ErrKind {
 			t.Errorf("P10: Forward(%d, %d) = %+v, %d", n, n, r, errno)
 		}
+		if r, errno := s.Backward(n, n); r != (api.Reply{}) || errno != api.ErrKind {
+			t.Errorf("P13: Backward(%d, %d) = %+v, %d", n, n, r, errno)
+		}
 	}
 	for kind := api.Step; kind <= api.Continue; kind++ {
 		for _, fuel := range []int{-1, 1001, least, most} {
 			if r, errno := s.Forward(kind, fuel); r != (api.Reply{}) || errno != api.ErrFuel {
 				t.Errorf("P10: Forward(%d, %d) = %+v, %d", kind, fuel, r, errno)
+			}
+			if r, errno := s.Backward(kind, fuel); r != (api.Reply{}) || errno != api.ErrFuel {
+				t.Errorf("P13: Backward(%d, %d) = %+v, %d", kind, fuel, r, errno)
 			}
 		}
 	}
@@ -189,22 +195,29 @@ func TestP1Sessions(t *testing.T) {
 	g := runs{random: rand.New(rand.NewSource(1))}
 	for range 150 {
 		source, input := "var x\n"+strings.Replace(g.source(), "var x", "", 1), g.input()
-		one, other := begin(t, source, input, 5), begin(t, source, input, 5)
+		capacity := 5 + g.random.Intn(50)
+		one, other := begin(t, source, input, capacity), begin(t, source, input, capacity)
 		stops, _, _ := retrace.Stops(source)
-		for range 12 {
+		for i := range 18 {
 			line := stops[g.random.Intn(len(stops))]
 			one.Mark(line)
 			other.Mark(line)
 			askAmiss(t, one)
 			kind, fuel := g.random.Intn(4), g.random.Intn(30)
-			r, errno := one.Forward(kind, fuel)
-			if want, wantErrno := other.Forward(kind, fuel); r != want || errno != wantErrno {
-				t.Fatalf("P1: %q: Forward(%d, %d) = %+v, %d, want %+v, %d", source, kind, fuel, r, errno, want, wantErrno)
+			call, otherCall := one.Forward, other.Forward
+			if i%3 == 2 {
+				call, otherCall = one.Backward, other.Backward
+			}
+			r, errno := call(kind, fuel)
+			if want, wantErrno := otherCall(kind, fuel); r != want || errno != wantErrno {
+				t.Fatalf("P1: %q: move %d: %d, %d: %+v, %d, want %+v, %d", source, i, kind, fuel, r, errno, want, wantErrno)
 			}
 			askAmiss(t, one)
-			if a, b := look(t, one), look(t, other); !reflect.DeepEqual(a, b) {
+			if a, b := look(t, one), look(t, other); !alike(a, b) {
 				t.Fatalf("P1: %q: %+v, want %+v", source, a, b)
 			}
+			low, count := other.Held()
+			checkHeld(t, one, low, count)
 		}
 	}
 }
@@ -230,8 +243,12 @@ func TestP2SessionInput(t *testing.T) {
 		whole[i] = -i
 		before := slices.Clone(whole)
 		s.Forward(api.Step, 1)
+		if i%3 == 0 {
+			s.Backward(api.Step, 1)
+			s.Forward(api.Step, 1)
+		}
 		if !slices.Equal(whole, before) {
-			t.Errorf("P2: Forward has written into the input: %v", whole)
+			t.Errorf("P2: a move has written into the input: %v", whole)
 		}
 	}
 	if output := s.Output(); !slices.Equal(output, []int{0, 1, 2, 3, 4, 5, 4, 3, 2, 1}) || s.Where().End != api.Halted {
@@ -243,7 +260,7 @@ func TestP2SessionInput(t *testing.T) {
 func TestP2SessionLists(t *testing.T) {
 	one, other := begin(t, down, rising(5), 5), begin(t, down, rising(5), 5)
 	var kept, keptBefore [][]int
-	for range 30 {
+	for i := range 91 {
 		output, calls := one.Output(), one.Calls()
 		if !slices.Equal(output, other.Output()) || !slices.Equal(calls, other.Calls()) {
 			t.Errorf("P2: output %v, calls %v, want %v, %v", output, calls, other.Output(), other.Calls())
@@ -252,13 +269,20 @@ func TestP2SessionLists(t *testing.T) {
 		keptBefore = append(keptBefore, slices.Clone(output), slices.Clone(calls))
 		spoil(output)
 		spoil(calls)
-		r, _ := one.Forward(api.Step, 1)
-		if want, _ := other.Forward(api.Step, 1); r != want {
-			t.Errorf("P2: Forward = %+v, want %+v", r, want)
+		call, otherCall := one.Forward, other.Forward
+		if i%3 == 2 {
+			call, otherCall = one.Backward, other.Backward
 		}
-		if a, b := look(t, one), look(t, other); !reflect.DeepEqual(a, b) {
+		r, _ := call(api.Step, 1)
+		if want, _ := otherCall(api.Step, 1); r != want {
+			t.Errorf("P2: move %d: %+v, want %+v", i, r, want)
+		}
+		if a, b := look(t, one), look(t, other); !alike(a, b) {
 			t.Errorf("P2: %+v, want %+v", a, b)
 		}
+	}
+	if r := one.Where(); r.End != api.Halted {
+		t.Errorf("P10: Where() = %+v", r)
 	}
 	for i := range kept {
 		if !slices.Equal(kept[i], keptBefore[i]) {

@@ -24,7 +24,7 @@ type seen struct {
 func look(t *testing.T, s *retrace.Session) seen {
 	t.Helper()
 	all := seen{where: s.Where(), calls: s.Calls(), output: s.Output(), values: map[string]int{}, cells: map[string][]int{}}
-	for _, name := range []string{"x", "y", "p", "q", "a", "b", "f", "g", "h", "n", "add", "main", "one", "all", "set", "to", "", " ", "X", "x ", "a[1]", "1", "\x00", "abcdefghi"} {
+	for _, name := range []string{"x", "y", "p", "q", "r", "s", "a", "b", "f", "g", "h", "n", "add", "main", "one", "all", "set", "to", "", " ", "X", "x ", "a[1]", "1", "\x00", "abcdefghi"} {
 		value, errno := s.Value(name)
 		if errno == api.OK {
 			all.values[name] = value

@@ -11,11 +11,12 @@ import (
 	"retrace/api"
 )
 
-// A second telling of P6 and of the places of a run, made from the words of the document and by other
-// means than the program's: blocks are run within blocks and calls within
-// calls, expressions are cut at the sign that binds least, and numbers are as
-// long as they come and are wrapped round behind each sign. The tests hold the
-// program against it.
+// A second telling of P6 and of the places of a run, made from the words of the
+// document and by other means than the program's: blocks are run within blocks
+// and calls within calls, expressions are cut at the sign that binds least, and
+// numbers are as long as they come and are wrapped round behind each sign. The
+// tests hold the program against it. It never goes back: each place is kept
+// whole.
 
 type rerun struct {
 	source reference
@@ -40,6 +41,7 @@ type place struct {
 	cells            map[string][]int
 	calls            []int
 	output           []int
+	records          int // of the step that is made from here; 0, if none is
 }
 
 type rerunStopped struct{}
@@ -104,12 +106,20 @@ func (r *rerun) look(i int) place {
 	return p
 }
 
-func (r *rerun) stop(end int) {
-	r.end = end
+// made counts a step that had so many records.
+func (r *rerun) made(records int) {
 	r.steps++
 	if r.looks {
+		r.places[len(r.places)-1].records = records
+	}
+}
+
+func (r *rerun) stop(end int) {
+	r.end = end
+	r.made(1)
+	if r.looks {
 		last := r.places[len(r.places)-1]
-		last.end = end
+		last.end, last.records = end, 0
 		r.places = append(r.places, last)
 	}
 	panic(rerunStopped{})
@@ -133,7 +143,7 @@ func (r *rerun) leave(i int) {
 	if len(r.params) == 1 {
 		r.stop(api.Halted)
 	}
-	r.steps++
+	r.made(1 + len(r.params[len(r.params)-1]))
 }
 
 // closing tells where the block that line i lies in has its else or end.
@@ -228,13 +238,13 @@ func (r *rerun) line(i int) int {
 		if len(r.params) == 6 {
 			r.stop(api.TooDeep)
 		}
-		r.steps++
+		r.made(1)
 		r.calls = append(r.calls, i+1)
 		r.proc(rest[0], values)
 		r.calls = r.calls[:len(r.calls)-1]
 		return 0
 	}
-	r.steps++
+	r.made(map[string]int{"if": 1, "while": 1, "set": 2, "print": 2, "read": 3}[tokens[0]])
 	return value
 }
 

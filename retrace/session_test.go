@@ -1,7 +1,6 @@
 package retrace_test
 
 import (
-	"math/rand"
 	"slices"
 	"strings"
 	"testing"
@@ -198,6 +197,18 @@ func TestP9SetAndTaken(t *testing.T) {
 	}
 }
 
+// badMoves are refused by Forward and Backward alike.
+var badMoves = []struct {
+	kind, fuel int
+	errno      api.Errno
+}{
+	{-1, 1, api.ErrKind}, {4, 1, api.ErrKind}, {least, 1, api.ErrKind}, {most, 1, api.ErrKind}, {256, 1, api.ErrKind},
+	{-1, -1, api.ErrKind}, {4, 1001, api.ErrKind}, {-1, 0, api.ErrKind}, {4, 1000, api.ErrKind},
+	{api.Step, -1, api.ErrFuel}, {api.Step, 1001, api.ErrFuel}, {api.Next, -1, api.ErrFuel}, {api.Next, 1001, api.ErrFuel},
+	{api.Finish, -1, api.ErrFuel}, {api.Finish, 1001, api.ErrFuel}, {api.Continue, -1, api.ErrFuel}, {api.Continue, 1001, api.ErrFuel},
+	{api.Step, least, api.ErrFuel}, {api.Continue, most, api.ErrFuel},
+}
+
 func TestP10Refused(t *testing.T) {
 	ended := begin(t, lines(example...), nil, 5)
 	ended.Forward(api.Continue, 1000)
@@ -205,16 +216,7 @@ func TestP10Refused(t *testing.T) {
 	midway.Forward(api.Continue, 6)
 	for _, s := range []*retrace.Session{begin(t, lines(example...), nil, 5), midway, ended} {
 		before := s.Where()
-		for _, c := range []struct {
-			kind, fuel int
-			errno      api.Errno
-		}{
-			{-1, 1, api.ErrKind}, {4, 1, api.ErrKind}, {least, 1, api.ErrKind}, {most, 1, api.ErrKind}, {256, 1, api.ErrKind},
-			{-1, -1, api.ErrKind}, {4, 1001, api.ErrKind}, {-1, 0, api.ErrKind}, {4, 1000, api.ErrKind},
-			{api.Step, -1, api.ErrFuel}, {api.Step, 1001, api.ErrFuel}, {api.Next, -1, api.ErrFuel}, {api.Next, 1001, api.ErrFuel},
-			{api.Finish, -1, api.ErrFuel}, {api.Finish, 1001, api.ErrFuel}, {api.Continue, -1, api.ErrFuel}, {api.Continue, 1001, api.ErrFuel},
-			{api.Step, least, api.ErrFuel}, {api.Continue, most, api.ErrFuel},
-		} {
+		for _, c := range badMoves {
 			if r, errno := s.Forward(c.kind, c.fuel); r != (api.Reply{}) || errno != c.errno {
 				t.Errorf("P10: Forward(%d, %d) = %+v, %d, want %d", c.kind, c.fuel, r, errno, c.errno)
 			}
@@ -408,69 +410,5 @@ func TestP10Long(t *testing.T) {
 	}
 	if x, errno := s.Value("x"); x != 15000 || errno != api.OK {
 		t.Errorf("P11: Value(x) = %d, %d", x, errno)
-	}
-}
-
-// asked tells where a move forward from the place of the index at ends, and why.
-func asked(places []place, at int, kind, fuel int, marks map[int]bool) (int, int) {
-	depth := places[at].depth
-	for to := at; ; to++ {
-		p, moved := places[to], to > at
-		switch {
-		case p.end != api.Running:
-			return to, api.Ended
-		case moved && (kind == api.Step || kind == api.Next && p.depth <= depth || kind == api.Finish && p.depth < depth):
-			return to, api.Reached
-		case moved && marks[p.line]:
-			return to, api.AtMark
-		case to == at+fuel:
-			return to, api.NoFuel
-		}
-	}
-}
-
-func TestP8ToP11AgainstReference(t *testing.T) {
-	const longest = 400
-	g := runs{random: rand.New(rand.NewSource(10))}
-	met := map[[2]int]int{}
-	for range 2000 {
-		source, input := g.source(), g.input()
-		places := placesOf(source, input, longest)
-		s := begin(t, source, input, 5+g.random.Intn(496))
-		stops, _, _ := retrace.Stops(source)
-		marks := map[int]bool{}
-		checkPlace(t, s, places, 0)
-		at := 0
-		for range 20 {
-			for range g.random.Intn(3) {
-				line := g.random.Intn(strings.Count(source, "\n")+5) - 1
-				marks[line] = !marks[line] && slices.Contains(stops, line)
-				if on, errno := s.Mark(line); on != marks[line] || (errno == api.OK) != slices.Contains(stops, line) {
-					t.Fatalf("P9: %q: Mark(%d) = %v, %d", source, line, on, errno)
-				}
-			}
-			kind := g.random.Intn(4)
-			fuel := []int{0, 1, g.random.Intn(6), g.random.Intn(60), 1000}[g.random.Intn(5)]
-			if places[len(places)-1].end == api.Running {
-				fuel = min(fuel, longest-at)
-			}
-			to, reason := asked(places, at, kind, fuel, marks)
-			p := places[to]
-			want := api.Reply{Reason: reason, Moved: to - at, End: p.end, Line: p.line, Depth: p.depth, Index: to}
-			if r, errno := s.Forward(kind, fuel); r != want || errno != api.OK {
-				t.Fatalf("P10: %q, %v at index %d, marks %v: Forward(%d, %d) = %+v, %d, want %+v", source, input, at, marks, kind, fuel, r, errno, want)
-			}
-			at = to
-			checkPlace(t, s, places, at)
-			met[[2]int{kind, reason}]++
-		}
-	}
-	for kind := api.Step; kind <= api.Continue; kind++ {
-		for reason := api.Reached; reason <= api.NoFuel; reason++ {
-			never := kind == api.Continue && reason == api.Reached || kind == api.Step && reason == api.AtMark
-			if count := met[[2]int{kind, reason}]; count < 20 && !never || count > 0 && never {
-				t.Errorf("the kind %d ended %d times for the reason %d", kind, count, reason)
-			}
-		}
 	}
 }
